@@ -8,6 +8,9 @@ thousand digits, for one, cannot be written into a text.
 class CarryError(ValueError):
     """The base of all errors of the package."""
 
+    def __init__(self, words):
+        ValueError.__init__(self, words)
+
 
 class NoKept(CarryError):
     """What tells whether a script keeps is neither True nor False."""
@@ -41,7 +44,7 @@ class NoSchema(CarryError):
     """The tables of a schema are wrong in the part `part`."""
 
     def __init__(self, part):
-        super().__init__("a part of the schema is wrong")
+        CarryError.__init__(self, "a part of the schema is wrong")
         self.part = part
 
 
@@ -49,7 +52,7 @@ class NoTable(CarryError):
     """There is no table called `name`."""
 
     def __init__(self, name):
-        super().__init__("there is no such table")
+        CarryError.__init__(self, "there is no such table")
         self.name = name
 
 
@@ -57,7 +60,7 @@ class NoColumn(CarryError):
     """The table has no column called `column`."""
 
     def __init__(self, column):
-        super().__init__("the table has no such column")
+        CarryError.__init__(self, "the table has no such column")
         self.column = column
 
 
@@ -65,7 +68,7 @@ class Missing(CarryError):
     """The table `table` has no row with the key `key`."""
 
     def __init__(self, table, key):
-        super().__init__("there is no such row")
+        CarryError.__init__(self, "there is no such row")
         self.table = table
         self.key = key
 
@@ -74,7 +77,7 @@ class NoKey(CarryError):
     """The value `key` is not a key."""
 
     def __init__(self, key):
-        super().__init__("a key is an integer from 1 on")
+        CarryError.__init__(self, "a key is an integer from 1 on")
         self.key = key
 
 
@@ -82,7 +85,7 @@ class NoRow(CarryError):
     """What is set at the key `key` is not a row of the table `table`."""
 
     def __init__(self, table, key):
-        super().__init__("this is not a row of the table")
+        CarryError.__init__(self, "this is not a row of the table")
         self.table = table
         self.key = key
 
@@ -91,7 +94,7 @@ class Taken(CarryError):
     """Another row of the table `table` has the label `label`."""
 
     def __init__(self, table, label):
-        super().__init__("another row of the table has this label")
+        CarryError.__init__(self, "another row of the table has this label")
         self.table = table
         self.label = label
 
@@ -100,7 +103,7 @@ class NoStep(CarryError):
     """There is no step, or none that is allowed, at `index`."""
 
     def __init__(self, index):
-        super().__init__("there is no step, or a wrong one, at this index")
+        CarryError.__init__(self, "there is no step, or a wrong one, at this index")
         self.index = index
 
 
@@ -108,7 +111,7 @@ class NotClosed(CarryError):
     """The database called `part` has a cell that leads to no row."""
 
     def __init__(self, part):
-        super().__init__("a cell of this database leads to no row")
+        CarryError.__init__(self, "a cell of this database leads to no row")
         self.part = part
 
 
@@ -116,7 +119,7 @@ class Refused(CarryError):
     """The step at `index` refused the source row with the key `key`, and `why`."""
 
     def __init__(self, index, key, why):
-        super().__init__("a row was refused")
+        CarryError.__init__(self, "a row was refused")
         self.index = index
         self.key = key
         self.why = why
@@ -126,5 +129,5 @@ class NoText(CarryError):
     """The line or part `part` of a text has not the form that it must have."""
 
     def __init__(self, part):
-        super().__init__("a part of the text has a wrong form")
+        CarryError.__init__(self, "a part of the text has a wrong form")
         self.part = part
