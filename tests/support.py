@@ -41,6 +41,15 @@ def example_base():
     return base
 
 
+def base_of(schema, rows=None):
+    """Return a database with the rows of a dict of tables, each a dict of keys and rows."""
+    base = Database(schema)
+    for table, held in (rows or {}).items():
+        for key, row in held.items():
+            base[table, key] = row
+    return base
+
+
 def contents(base):
     """Return all rows of a database as plain values."""
     return [(entry[0], base.rows(entry[0])) for entry in base.schema().tables()]

@@ -15,6 +15,17 @@ DATABASES = """
 (True, 3, [('person', 'home'), ('person', 'boss')])
 """
 
+RUNS = """
+>>> from carrykeys.runs import run
+>>> from carrykeys.scripts import Script
+>>> target = Database(schema)
+>>> target["person", 1] = (9, (None, 1))
+>>> script = Script(schema, (("load", "city", "raw", True), ("load", "person", "raw", False), ("patch", "person", "boss")))
+>>> outcome = run(script, source, target)
+>>> outcome.target().rows("person"), outcome.mapped("person"), outcome.strokes
+([(1, (9, (None, 1))), (2, (7, (1, 3))), (3, (8, (1, None)))], [(1, 2), (2, 3)], 5)
+"""
+
 
 class ExamplesTest(unittest.TestCase):
     def assert_holds(self, text):
@@ -28,6 +39,10 @@ class ExamplesTest(unittest.TestCase):
 
     def test_databases(self):
         self.assert_holds(DATABASES)
+
+    def test_runs(self):
+        # The schema and the source are those of the example of databases.
+        self.assert_holds(DATABASES + RUNS)
 
     def test_readme(self):
         self.assert_holds((pathlib.Path(__file__).parent.parent / "README.md").read_text())
