@@ -91,6 +91,7 @@ def _is_led(script, loads, place, stopped):
     early = known < start
     if missing == "refuse" and not early:
         return False
+    # A sweep that finds keys mapped changes old rows.
     if "sweep" in _words_behind(script, place, known):
         return False
     words = _words_behind(script, place, max(start, known))
@@ -103,6 +104,7 @@ def _is_led(script, loads, place, stopped):
     if stopped:
         # Behind a stop, all steps find rows that were made and keys that are mapped.
         words = _words_behind(script, place, -1)
+    # A fill makes good what was patched once more, unless another patch follows.
     return "sweep" not in words and words[-1:] != ["patch"]
 
 

@@ -199,6 +199,17 @@ class CarrierTest(unittest.TestCase):
             raised(self, NothingBegun, carrier.again)
             self.assertEqual(state(carrier), before)
 
+    def test_again_behind_strokes_and_none(self):
+        carrier = self.carrier((CITY, PERSON))
+        carrier.go(2)
+        self.assertEqual(carrier.go(0), 0)
+        self.assertIsNone(carrier.again())
+        self.assert_at(carrier, 0, False, 2)
+        carrier.go(1000)
+        self.assertEqual(carrier.go(1000), 0)
+        self.assertIsNone(carrier.again())
+        self.assert_at(carrier, 0, False, 5)
+
     def test_again_twice_in_a_row(self):
         for many in (1, 2, 3, 1000):
             carrier = self.carrier((CITY, PERSON))
