@@ -137,3 +137,8 @@ class Database:
         targets = self._rows[self._schema.target_of(table, column)]
         cells = [row[1][at] for row in self._rows[table].values()]
         return all([cell is None or cell in targets for cell in cells])
+
+
+def lone_cell(schema, table, column=None):
+    """Return the cells of a row that are all blank but for a 1 in the column, if one is told."""
+    return tuple([1 if name == column else None for name in schema.columns(table)])

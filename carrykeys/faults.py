@@ -8,7 +8,7 @@ second one is still to come at a stop, and an old row in the target, so that eac
 one more than the old one. A key that is left old or translated twice then leads astray.
 """
 
-from carrykeys.bases import Database
+from carrykeys.bases import Database, lone_cell
 from carrykeys.errors import NoFlag, NotSafe
 from carrykeys.judge import losses
 from carrykeys.kinds import is_flag
@@ -123,7 +123,7 @@ def _case(schema, place):
 def _case_of_table(schema, table):
     source = Database(schema)
     target = Database(schema)
-    blank = _blank(schema, table)
+    blank = lone_cell(schema, table)
     target[table, 1] = (1, blank)
     source[table, 1] = (1, blank)
     source[table, 2] = (2 if schema.is_unique(table) else 1, blank)
@@ -134,14 +134,9 @@ def _case_of_column(schema, table, column):
     source = Database(schema)
     target = Database(schema)
     other = schema.target_of(table, column)
-    cells = tuple([1 if name == column else None for name in schema.columns(table)])
     # If the column refers to its own table, the later rows take the place of the earlier ones.
-    for name, row_cells in [(other, _blank(schema, other)), (table, cells)]:
-        target[name, 1] = (0, row_cells)
-        source[name, 1] = (1, row_cells)
-        source[name, 2] = (2, row_cells)
+    for name, cells in [(other, lone_cell(schema, other)), (table, lone_cell(schema, table, column))]:
+        target[name, 1] = (0, cells)
+        source[name, 1] = (1, cells)
+        source[name, 2] = (2, cells)
     return source, target
-
-
-def _blank(schema, table):
-    return tuple([None for _ in schema.columns(table)])

@@ -145,6 +145,44 @@ def model_losses(script, source, target, stops=()):
     return model.losses(plain(target))
 
 
+def model_end(script, source, target):
+    """Return the plain target at the end of a run without stops, None if it is refused."""
+    try:
+        return Model(script, source, target).carry().base
+    except Refusal:
+        return None
+
+
+def meaning(script):
+    """Return what the first load of each table and the steps for each column come to, without stops.
+
+    A number tells how often a key is translated in the end: in a row that is made of a source row
+    whose key was mapped already, in one of another row, and in an old row.
+    """
+    loads = {}
+    columns = {(name, column): [None, None, 0]
+               for name, _, refers in script.schema().tables() for column, _ in refers}
+    leads = {place: script.schema().target_of(*place) for place in columns}
+    for step in script.steps():
+        if step[0] == "load" and step[1] not in loads:
+            for place in columns:
+                if place[0] == step[1]:
+                    late = {"raw": 0, "blank": "blank", "refuse": "refused"}[step[2]]
+                    columns[place][0] = 1 if leads[place] == step[1] or leads[place] in loads else late
+                    columns[place][1] = 1 if leads[place] in loads else late
+            loads[step[1]] = step[3]
+        elif step[0] != "load" and leads[step[1:]] in loads:
+            told = columns[step[1:]]
+            for at in (0, 1):
+                if step[0] == "fill" and told[at] not in (None, "refused"):
+                    told[at] = 1
+                elif isinstance(told[at], int):
+                    told[at] += 1
+            if step[0] == "sweep":
+                told[2] += 1
+    return loads, columns
+
+
 def draw_schema(dice, most_tables=3, most_columns=3):
     names = ["a", "b", "c", "d", "e"][:dice.randint(1, most_tables)]
     tables = []

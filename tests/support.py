@@ -1,6 +1,7 @@
 """What several test files need."""
 
 from carrykeys.bases import Database, Schema
+from carrykeys.scripts import Script
 
 TABLES = (("city", True, ()), ("person", False, (("home", "city"), ("boss", "person"))))
 
@@ -48,6 +49,17 @@ def base_of(schema, rows=None):
         for key, row in held.items():
             base[table, key] = row
     return base
+
+
+def script_of(schema, text, kept=True):
+    """Return the script of the steps in a text, in which "load a raw" does not match."""
+    steps = []
+    for part in text.split("; ") if text else []:
+        words = part.split(" ")
+        if words[0] == "load":
+            words = words[:3] + [words[3:] == ["match"]]
+        steps.append(tuple(words))
+    return Script(schema, tuple(steps), kept)
 
 
 def contents(base):

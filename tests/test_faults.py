@@ -8,7 +8,7 @@ from carrykeys.faults import first_fault, is_right, is_safe, needless
 from carrykeys.judge import losses
 from carrykeys.scripts import Script
 from model import dice_of, draw_base, draw_schema, draw_step, draw_stops, model_losses
-from support import FLAGS, raised, strange
+from support import FLAGS, raised, script_of, strange
 
 ONE = Schema((("a", True, ()),))
 ANY = Schema((("a", False, ()),))
@@ -147,16 +147,6 @@ CASES = [
     (KNOT, "load a raw; fill a x; load c raw; fill c y; load b raw match; fill a y; patch b x", True, "wrong"),
     (KNOT, "load a raw; fill a x; load c raw; fill c y; patch b x; load b raw match; fill a y", True, "right"),
 ]
-
-
-def script_of(schema, text, kept=True):
-    steps = []
-    for part in text.split("; ") if text else []:
-        words = part.split(" ")
-        if words[0] == "load":
-            words = words[:3] + [words[3:] == ["match"]]
-        steps.append(tuple(words))
-    return Script(schema, tuple(steps), kept)
 
 
 def draw_shaped(dice, schema):
